@@ -1,0 +1,27 @@
+"""Tells whether any value has one of the forms that all parts of the document use."""
+
+LETTERS = "abcdefghijklmnopqrstuvwxyz"
+LETTERS_AND_DIGITS = "abcdefghijklmnopqrstuvwxyz0123456789"
+LONGEST_NAME = 8
+
+
+def is_integer(thing):
+    """Whether thing is an int that is not a bool."""
+    return isinstance(thing, int) and not isinstance(thing, bool)
+
+
+def is_tuple_of(thing, length):
+    """Whether thing is a tuple with this number of items."""
+    return isinstance(thing, tuple) and len(thing) == length
+
+
+def are_items(thing, has_form):
+    """Whether thing is a tuple whose items all have the form that has_form tests."""
+    return isinstance(thing, tuple) and all(has_form(item) for item in thing)
+
+
+def is_name(thing):
+    """Whether thing is a name: 1 to 8 letters and digits, beginning with a letter."""
+    if not isinstance(thing, str) or not 1 <= len(thing) <= LONGEST_NAME:
+        return False
+    return thing[0] in LETTERS and all(sign in LETTERS_AND_DIGITS for sign in thing)

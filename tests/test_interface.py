@@ -1,0 +1,32 @@
+"""The interface: names, parameters, and the files that define them."""
+
+import importlib
+import inspect
+import unittest
+
+INTERFACE = {
+    "clearline.plans": {"is_plan": ["thing"], "plan_text": ["plan"], "read_plan": ["text"]},
+    "clearline.checker": {
+        "fault": ["plan"], "is_checked": ["plan"], "joined_to": ["plan", "end"], "at_end": ["plan", "end"],
+    },
+}
+
+
+class InterfaceTest(unittest.TestCase):
+    def test_functions_and_parameters(self):
+        for module_name, functions in INTERFACE.items():
+            module = importlib.import_module(module_name)
+            for name, parameters in functions.items():
+                with self.subTest(module_name, name=name):
+                    function = getattr(module, name)
+                    self.assertTrue(inspect.isfunction(function))
+                    self.assertEqual(function.__module__, module_name)
+                    signature = inspect.signature(function)
+                    self.assertEqual(list(signature.parameters), parameters)
+                    for parameter in signature.parameters.values():
+                        self.assertIs(parameter.kind, parameter.POSITIONAL_OR_KEYWORD)
+                        self.assertIs(parameter.default, parameter.empty)
+
+
+if __name__ == "__main__":
+    unittest.main()
