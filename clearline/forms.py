@@ -25,3 +25,20 @@ def is_name(thing):
     if not isinstance(thing, str) or not 1 <= len(thing) <= LONGEST_NAME:
         return False
     return thing[0] in LETTERS and all(sign in LETTERS_AND_DIGITS for sign in thing)
+
+
+def is_integer_from(thing, least):
+    """Whether thing is an integer that is not below least."""
+    return is_integer(thing) and thing >= least
+
+
+def is_one_of(thing, known):
+    """Whether thing is one of the known strings, a list, a tuple or a dict."""
+    return isinstance(thing, str) and thing in known
+
+
+def are_ascending(thing, known):
+    """Whether thing is a tuple of some of the known strings, sorted, none of them twice."""
+    if not are_items(thing, lambda item: is_one_of(item, known)):
+        return False
+    return list(thing) == sorted(set(thing))

@@ -1,5 +1,7 @@
 """Plans and values that several tests use, and ways to spoil them."""
 
+import copy
+
 LOOP_TEXT = (
     "stretch w plain\nstretch p points\nstretch a plain\nstretch b plain\nstretch q points\n"
     "stretch e plain\njoin w 1 p 0\njoin p 1 a 0\njoin p 2 b 0\njoin a 1 q 1\njoin b 1 q 2\n"
@@ -122,3 +124,48 @@ def spoiled(plan):
         else:
             for name in WRONG_NAMES:
                 yield changed(plan, place, name)
+
+
+def wrong_kinds(value):
+    """The value with one part of another kind than it should be: a list for a tuple, a bool for an integer."""
+    for place in places(value):
+        old = part(value, place)
+        if isinstance(old, tuple):
+            news = (list(old), {at: item for at, item in enumerate(old)}, None, "", 0, True)
+        elif isinstance(old, bool):
+            news = (int(old), str(old), None, (), (old,), [old])
+        elif isinstance(old, int):
+            news = (bool(old), str(old), None, (), (old,), [old])
+        else:
+            news = (None, 0, True, (), (old,), [old], {old: 0})
+        for new in news:
+            yield changed(value, place, new)
+
+
+def wrong_lengths(value, is_free):
+    """The value with one of its tuples too long or too short; is_free tells the places of those of any length."""
+    for place in places(value):
+        old = part(value, place)
+        if isinstance(old, tuple) and not is_free(place):
+            news = [old + ("a",), old + (0,), old + ((),), old + old[-1:], old[:-1], old[1:], ()]
+            for new in news:
+                if len(new) != len(old):
+                    yield changed(value, place, new)
+
+
+def same_calls(test, function, arguments, expected):
+    """Tests a call by position and by name, twice, and that it leaves its arguments as they were."""
+    before = copy.deepcopy(arguments)
+    for _ in range(2):
+        test.assertEqual(function(*arguments.values()), expected)
+        test.assertEqual(function(**arguments), expected)
+    test.assertEqual(arguments, before)
+
+
+def raises(test, function, arguments, error, thing):
+    """Tests that a call, by position and by name, raises just this error with just this value."""
+    for call in (lambda: function(*arguments.values()), lambda: function(**arguments)):
+        with test.assertRaises(error) as caught:
+            call()
+        test.assertIs(type(caught.exception), error)
+        test.assertIs(caught.exception.thing, thing)

@@ -7,6 +7,12 @@ import unittest
 PACKAGE = pathlib.Path(__file__).resolve().parent.parent / "clearline"
 FILES = sorted(PACKAGE.rglob("*.py"))
 LIBRARY = {"heapq", "math", "itertools", "collections"}
+# Names that a file of the package must not use for anything of its own (L17, and builtins that L8 does not list).
+BARRED_NAMES = {
+    "mro", "elements", "open", "input", "law", "version_info", "with_traceback", "add_note", "compile", "dir", "eval",
+    "exec", "exit", "gc", "globals", "help", "id", "locals", "os", "vars", "print", "map", "filter", "hash", "round",
+    "format", "object", "frozenset", "bytearray", "slice", "callable", "float", "complex", "chr", "hex", "bin", "oct",
+}
 BARRED = (ast.AsyncFunctionDef, ast.Await, ast.AsyncFor, ast.AsyncWith, ast.Div)
 
 
@@ -56,6 +62,23 @@ class CodeTest(unittest.TestCase):
                 self.assertNotIsInstance(node, BARRED)
                 if isinstance(node, ast.Constant):
                     self.assertNotIsInstance(node.value, (float, complex))
+
+    def test_barred_names(self):
+        for file, tree in self.trees():
+            for node in ast.walk(tree):
+                for field in ("id", "attr", "arg", "name"):
+                    self.assertNotIn(getattr(node, field, None), BARRED_NAMES, file.name)
+
+    def test_no_name_of_an_import_is_given_another_meaning(self):
+        for file, tree in self.trees():
+            imported = {alias.name for node in tree.body if isinstance(node, ast.ImportFrom) for alias in node.names}
+            for node in ast.walk(tree):
+                if isinstance(node, ast.arg):
+                    self.assertNotIn(node.arg, imported, file.name)
+                if isinstance(node, ast.Name) and isinstance(node.ctx, ast.Store):
+                    self.assertNotIn(node.id, imported, file.name)
+                if isinstance(node, (ast.FunctionDef, ast.ClassDef)):
+                    self.assertNotIn(node.name, imported, file.name)
 
     def test_module_level(self):
         allowed = (ast.ImportFrom, ast.FunctionDef, ast.ClassDef, ast.Assign, ast.Expr)

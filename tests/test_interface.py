@@ -9,6 +9,22 @@ INTERFACE = {
     "clearline.checker": {
         "fault": ["plan"], "is_checked": ["plan"], "joined_to": ["plan", "end"], "at_end": ["plan", "end"],
     },
+    "clearline.routes": {
+        "routes": ["plan"], "is_route": ["plan", "thing"], "overlap_of": ["plan", "route"],
+        "berth_of": ["plan", "route"], "needs": ["plan", "route"], "lies_of": ["plan", "route"],
+        "do_bar": ["plan", "one", "other"],
+    },
+    "clearline.tracks": {
+        "is_standing": ["plan", "thing"], "bare": ["plan", "lies"], "taken": ["plan", "standing"],
+        "is_safe": ["plan", "standing"], "moves": ["plan", "standing", "names"],
+        "moved": ["plan", "standing", "move"],
+    },
+    "clearline.field": {
+        "is_letter": ["plan", "thing"], "is_answer": ["plan", "thing"], "begun_field": ["plan", "lies"],
+        "is_field": ["plan", "thing"], "hears": ["plan", "field", "taken", "letter"],
+        "passes": ["plan", "field", "name"], "settles": ["plan", "field", "name"], "shows_of": ["plan", "field"],
+        "lies_now": ["plan", "field"],
+    },
 }
 
 
