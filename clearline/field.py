@@ -2,6 +2,7 @@
 
 from clearline.errors import BadField, BadLetter, BadName, BadTaken
 from clearline.forms import are_ascending, are_items, is_integer_from, is_one_of, is_tuple_of
+from clearline.items import exchanged
 from clearline.layout import layout_of
 from clearline.lies import POSITIONS, SIDES, demand_lies
 
@@ -110,11 +111,6 @@ def field_in(plan, field):
     if not fits_field(layout, field):
         raise BadField(field)
     return layout
-
-
-def exchanged(items, at, item):
-    """The items with another one at this place."""
-    return items[:at] + (item,) + items[at + 1:]
 
 
 def with_signal(layout, field, name, element):

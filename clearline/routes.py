@@ -86,12 +86,17 @@ def overlap_of(plan, route):
     return layout.overlap_at(route[2])
 
 
+def berth_in(layout, route):
+    """The stretch of the last step of a route that ends at a signal, or None if it ends at a gate."""
+    _, steps, end = route
+    return steps[-1][0] if end in layout.signals else None
+
+
 def berth_of(plan, route):
     """The stretch of the last step of a route that ends at a signal, or None if it ends at a gate."""
     layout = layout_of(plan)
     demand_route(layout, route)
-    _, steps, end = route
-    return steps[-1][0] if end in layout.signals else None
+    return berth_in(layout, route)
 
 
 def needs(plan, route):
@@ -101,12 +106,17 @@ def needs(plan, route):
     return tuple(sorted(needed(layout, route)))
 
 
+def needed_lies(layout, route):
+    """The ascending tuple of pairs (points, side): how a route needs points to lie."""
+    # An overlap is no way of points, so the steps alone want something.
+    return tuple(sorted([(step[0], wanted_side(step)) for step in route[1] if step[0] in layout.points]))
+
+
 def lies_of(plan, route):
     """The ascending tuple of pairs (points, side): how a route needs points to lie."""
     layout = layout_of(plan)
     demand_route(layout, route)
-    # An overlap is no way of points, so the steps alone want something.
-    return tuple(sorted([(step[0], wanted_side(step)) for step in route[1] if step[0] in layout.points]))
+    return needed_lies(layout, route)
 
 
 def do_bar(plan, one, other):

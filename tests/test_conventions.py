@@ -1,13 +1,14 @@
-"""[0.2] Conventions, for all functions of clearline.routes, clearline.tracks and clearline.field."""
+"""[0.2] Conventions, for all functions that take a plan, from routes on, and for those of the log that take none."""
 
 import copy
 import inspect
 import itertools
 import unittest
 
-from clearline import errors, field, routes, tracks
+from clearline import box, errors, field, journeys, log, routes, tracks
 from tests.layouts import LINE, PLANS, UNCHECKED
-from tests.samples import ANY_VALUES, EMPTY, FAULTY, FULL, LOOP, raises, spoiled
+from tests.samples import ANY_VALUES, EMPTY, FAULTY, FULL, LOOP, raises, same_calls, spoiled
+from tests.trains import BOTH, LEFT, SAMPLES
 
 ROUTE = ("west", (("w", 0, 1), ("p", 0, 1), ("a", 0, 1)), "sa")
 OTHER_ROUTE = ("sb", (("p", 2, 0), ("w", 1, 0)), "west")
@@ -17,7 +18,16 @@ FIELD = (
     ((5, 3, False, True), (7, 7, True, False), (0, 0, False, False), (9, 4, False, True)),
     ((5, "right", "between"), (3, "left", "left")),
 )
-# The right arguments behind the plan, and what the function answers.
+# The train one stands at sa; the points of the route of two are being thrown.
+BOOK = (3, (1, 1), (0, 0, 1, 2, 2, 2), ((), ("points", (3,), (False,))))
+UNDONE = (3, (1, 0), (0, 0, 1, 0, 0, 0), ((), ()))
+OPENED = (4, (1, 1), (0, 0, 1, 2, 2, 2), ((), ("open", 4)))
+THROW = ("send", ("throw", "q", 3, "right"))
+LOG = (("go", "one"), ("open", "one"), ("sweep", "one"))
+COME_UP = (3, (1, 0), (1, 1, 1, 0, 0, 0), (("sweep", 0, 3), ()))
+HERE = {"journeys": BOTH, "count": (1, 1)}
+BOOKED = {"journeys": BOTH, "book": BOOK}
+# The right arguments behind the plan, and what the function answers; None where several answers are right.
 CALLS = {
     routes.routes: ({}, None),
     routes.is_route: ({"thing": ROUTE}, True),
@@ -48,6 +58,27 @@ CALLS = {
     field.settles: ({"field": FIELD, "name": "p"}, (FIELD[0], ((5, "right", "right"), FIELD[1][1]))),
     field.shows_of: ({"field": FIELD}, ("sb", "west")),
     field.lies_now: ({"field": FIELD}, (("p", "between"), ("q", "left"))),
+    journeys.are_journeys: ({"thing": BOTH}, True),
+    journeys.held: (HERE, (("a",), ("b",))),
+    journeys.wanted: (HERE, (("e", "q"), ("p", "w"))),
+    journeys.judge_count: (HERE, None),
+    journeys.count_holds: ({**HERE, "thing": ("order", ("two", "one"))}, True),
+    journeys.is_homely: (HERE, True),
+    journeys.judge_going: ({**HERE, "train": "one"}, ("go", ("two",))),
+    journeys.going_holds: ({**HERE, "train": "two", "thing": ("go", ("one",))}, True),
+    journeys.going_trains: (HERE, ("one", "two")),
+    box.is_book: ({"journeys": BOTH, "thing": BOOK}, True),
+    box.begun_book: ({"journeys": BOTH}, (0, (0, 0), (0, 0, 0, 0, 0, 0), ((), ()))),
+    box.room_of: ({**BOOKED, "train": "two"}, ("b", "e", "q")),
+    box.ordered: ({**BOOKED, "order": ("undo", "two")}, (UNDONE, (("row", ("undone", "two")),))),
+    box.told: (
+        {**BOOKED, "answer": ("points", "q", 3, "right")},
+        (OPENED, (("row", ("open", "two")), ("send", ("open", "east", 4)))),
+    ),
+    box.ticked: (BOOKED, (BOOK, (THROW,))),
+    box.reason_holds: ({**BOOKED, "order": ("go", "two"), "thing": ("under way", "two")}, True),
+    log.is_log: ({"journeys": BOTH, "thing": LOG}, True),
+    log.come_up: ({"journeys": BOTH, "log": LOG}, COME_UP),
 }
 # The error of each parameter, and values that are wrong for it, as is None.
 WRONG = {
@@ -62,6 +93,13 @@ WRONG = {
     "taken": (errors.BadTaken, [("b", "a"), ["a"]]),
     "letter": (errors.BadLetter, [("look", "sa", 4), ["look", "a", 4]]),
     "name": (errors.BadName, ["a", ["p"]]),
+    "journeys": (errors.BadJourneys, [BOTH[0], BOTH[:1] * 2, [*BOTH]]),
+    "count": (errors.BadCount, [(1,), (3, 0), [1, 1]]),
+    "train": (errors.BadTrain, ["three", ["one"]]),
+    "book": (errors.BadBook, [BOOK[:3], (2,) + BOOK[1:], [*BOOK]]),
+    "order": (errors.BadOrder, [("go", "three"), ["go", "one"]]),
+    "answer": (errors.BadAnswer, [("points", "q", 3), ["points", "q", 3, "right"]]),
+    "log": (errors.BadLog, [LOG[1:], [*LOG]]),
 }
 NO_PLANS = [*ANY_VALUES, LOOP[:3], [*LOOP], (LOOP,), "stretch a plain"]
 
@@ -73,7 +111,7 @@ def fitting(function):
 
 class CallsTest(unittest.TestCase):
     def test_all_functions_are_here(self):
-        for module, many in ((routes, 7), (tracks, 6), (field, 9)):
+        for module, many in ((routes, 7), (tracks, 6), (field, 9), (journeys, 9), (box, 7), (log, 2)):
             here = [function for function in CALLS if function.__module__ == module.__name__]
             self.assertEqual(len(here), many)
 
@@ -98,6 +136,31 @@ class CallsTest(unittest.TestCase):
                     except errors.LineError:
                         pass
                     self.assertEqual(function(**copy.deepcopy(arguments)), first)
+
+    def test_asked_again_behind_other_journeys(self):
+        for function in CALLS:
+            arguments = fitting(function)
+            if "journeys" not in arguments:
+                continue
+            first = function(**arguments)
+            with self.subTest(function.__name__):
+                for plan, others in (*SAMPLES, (LOOP, LEFT), (LOOP, BOTH[::-1]), (LOOP, [*BOTH])):
+                    try:
+                        function(**{**arguments, "plan": plan, "journeys": others})
+                    except errors.LineError:
+                        pass
+                    self.assertEqual(function(**copy.deepcopy(arguments)), first)
+
+    def test_answers_behind_other_journeys(self):
+        # The same trains, in another order or on other routes: nothing is told of ones that were asked about before.
+        for _ in range(2):
+            self.assertEqual(journeys.held(LOOP, BOTH, (1, 0)), (("a",), ()))
+            self.assertEqual(journeys.held(LOOP, BOTH[::-1], (1, 0)), (("b",), ()))
+            self.assertEqual(journeys.wanted(LOOP, BOTH, (1, 1)), (("e", "q"), ("p", "w")))
+            self.assertEqual(journeys.wanted(LOOP, LEFT, (1, 1)), (("e", "q"), ()))
+            self.assertEqual(box.begun_book(LOOP, BOTH[:1]), (0, (0,), (0,) * 6, ((),)))
+            self.assertEqual(log.come_up(LOOP, BOTH, (("go", "two"),))[1], (0, 1))
+            self.assertEqual(log.come_up(LOOP, BOTH[::-1], (("go", "two"),))[1], (1, 0))
 
     def test_answers_behind_another_plan(self):
         # The same names, but r stands where s stood: what was told of one plan is not told of the other.
@@ -130,8 +193,42 @@ class CallsTest(unittest.TestCase):
             arguments = fitting(function)
             if "thing" in arguments:
                 self.assertIs(function(**arguments), True)
+                # The empty tuple is journeys of no train, and the log at the beginning.
+                expected = function in (journeys.are_journeys, log.is_log)
                 for thing in [*ANY_VALUES, LOOP]:
-                    self.assertIs(function(**{**arguments, "thing": thing}), False)
+                    self.assertIs(function(**{**arguments, "thing": thing}), expected and thing == ())
+
+
+class DeedsTest(unittest.TestCase):
+    ROW, LETTER = ("go", "one"), ("look", "a", 1)
+    DEEDS = (("row", ROW), ("row", ("open", "one")), ("send", LETTER))
+
+    def test_by_position_and_by_name(self):
+        same_calls(self, log.rows_of, {"deeds": self.DEEDS}, (self.ROW, ("open", "one")))
+        same_calls(self, log.letters_of, {"deeds": self.DEEDS}, (self.LETTER,))
+        for function in (log.rows_of, log.letters_of):
+            self.assertEqual(list(inspect.signature(function).parameters), ["deeds"])
+            same_calls(self, function, {"deeds": ()}, ())
+
+    def test_whatever_the_pairs_hold(self):
+        for value in ANY_VALUES:
+            same_calls(self, log.rows_of, {"deeds": (("send", self.LETTER), ("row", value))}, (value,))
+            same_calls(self, log.letters_of, {"deeds": (("send", value), ("row", self.ROW))}, (value,))
+
+    def test_bad_deeds_alone(self):
+        refusal = box.ordered(LOOP, **BOOKED, order=("go", "two"))[1]
+        self.assertEqual(refusal, (("refused", ("under way", "two")),))
+        pair = ("row", self.ROW)
+        wrong = [
+            refusal, (pair,) + refusal, [pair], (list(pair),), pair, (pair + (1,),), (pair[:1],), ("row",), ("ro",),
+            (("Row", self.ROW),), (("", self.ROW),), ((None, self.ROW),), ((["row"], self.ROW),), ((True, self.ROW),),
+            ({"row": 1, "send": 2},), (pair, None), (pair, ()), {"row": 1}, BOOK, LOOP, LOG, self.ROW,
+        ]
+        for thing in wrong + [value for value in ANY_VALUES if value != ()]:
+            before = copy.deepcopy(thing)
+            raises(self, log.rows_of, {"deeds": thing}, errors.BadDeeds, thing)
+            raises(self, log.letters_of, {"deeds": thing}, errors.BadDeeds, thing)
+            self.assertEqual(thing, before)
 
 
 class ErrorsTest(unittest.TestCase):
@@ -187,6 +284,9 @@ class ErrorsTest(unittest.TestCase):
         self.assertEqual(routes.routes(EMPTY), ())
         self.assertEqual(tracks.moves(EMPTY, tracks.bare(EMPTY, ()), ("t",)), ())
         self.assertEqual(field.begun_field(EMPTY, ()), ((), ()))
+        self.assertEqual(box.begun_book(EMPTY, ()), (0, (), (), ()))
+        self.assertEqual(box.ticked(EMPTY, (), (0, (), (), ())), ((0, (), (), ()), ()))
+        raises(self, journeys.is_homely, {"plan": EMPTY, "journeys": BOTH, "count": ()}, errors.BadJourneys, BOTH)
         raises(self, routes.needs, {"plan": EMPTY, "route": ROUTE}, errors.BadRoute, ROUTE)
         raises(self, field.passes, {"plan": EMPTY, "field": ((), ()), "name": "west"}, errors.BadName, "west")
 

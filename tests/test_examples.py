@@ -4,9 +4,12 @@ import doctest
 import pathlib
 import unittest
 
+from clearline.box import begun_book, ordered, reason_holds, room_of, ticked, told
 from clearline.checker import at_end, fault, joined_to
 from clearline.errors import BadText
 from clearline.field import begun_field, hears, passes, settles, shows_of
+from clearline.journeys import going_trains, held, is_homely, judge_count, judge_going, wanted
+from clearline.log import come_up, is_log, letters_of, rows_of
 from clearline.plans import plan_text, read_plan
 from clearline.routes import berth_of, do_bar, is_route, lies_of, needs, routes
 from clearline.tracks import bare, is_safe, moved, moves, taken
@@ -71,6 +74,53 @@ class Part5Test(unittest.TestCase):
             [(((0, 0, False, False), (0, 0, False, False), (0, 0, False, False)), ()), ('signal', 's', 3, 3, False), ('s',), ('signal', 's', 3, 3, True), ('signal', 's', 3, 3, True), ('signal', 's', 4, 3, True), ('seen', 'a', 5, False)],
         )
         self.assertEqual(settles(((("p", "points"),), (), (), ()), ((), ((1, "right", "between"),)), "p"), ((), ((1, "right", "right"),)))
+
+
+class Part6Test(unittest.TestCase):
+    def test_a_route_and_the_next_one(self):
+        P = ((('a', 'plain'), ('b', 'plain')), ((('a', 1), ('b', 0)),), (('west', ('a', 0)), ('east', ('b', 1))), (('s', ('a', 1), ()),))
+        J = (('t', (('west', (('a', 0, 1),), 's'), ('s', (('b', 0, 1),), 'east'))),)
+        ONE = ordered(P, J, begun_book(P, J), ('go', 't'))
+        TWO = told(P, J, ONE[0], ('signal', 'west', 1, 1, True))
+        THREE = ordered(P, J, TWO[0], ('go', 't'))
+        self.assertEqual(
+            [ONE, TWO, THREE[0], room_of(P, J, THREE[0], 't')],
+            [((1, (1,), (1, 0), (('open', 1),)), (('row', ('go', 't')), ('row', ('open', 't')), ('send', ('open', 'west', 1)))), ((1, (1,), (1, 0), ((),)), (('row', ('sweep', 't')),)), (2, (2,), (1, 1), (('open', 2),)), ('a', 'b')],
+        )
+
+    def test_sweeping(self):
+        P = ((('a', 'plain'), ('b', 'plain')), ((('a', 1), ('b', 0)),), (('west', ('a', 0)), ('east', ('b', 1))), (('s', ('a', 1), ()),))
+        J = (('t', (('west', (('a', 0, 1),), 's'), ('s', (('b', 0, 1),), 'east'))),)
+        BOOK = (2, (2,), (1, 1), (('open', 2),))
+        FOUR = told(P, J, BOOK, ('signal', 's', 2, 2, True))
+        FIVE = told(P, J, FOUR[0], ('seen', 'a', 3, True))
+        self.assertEqual(
+            [FOUR, ticked(P, J, FOUR[0])[1], FIVE, told(P, J, FIVE[0], ('seen', 'b', 4, True))[0], ordered(P, J, FIVE[0], ('go', 't'))[1], reason_holds(P, J, FIVE[0], ('undo', 't'), ('gone', 't'))],
+            [((3, (2,), (1, 1), (('sweep', 0, 3),)), (('row', ('sweep', 't')), ('send', ('look', 'a', 3)))), (('send', ('look', 'a', 3)),), ((4, (2,), (0, 1), (('sweep', 1, 4),)), (('row', ('free', 't')), ('send', ('look', 'b', 4)))), (4, (2,), (0, 0), ((),)), (('refused', ('home',)),), True],
+        )
+
+
+class Part7Test(unittest.TestCase):
+    def test_the_log(self):
+        P = ((('a', 'plain'), ('b', 'plain')), ((('a', 1), ('b', 0)),), (('west', ('a', 0)), ('east', ('b', 1))), (('s', ('a', 1), ()),))
+        J = (('t', (('west', (('a', 0, 1),), 's'), ('s', (('b', 0, 1),), 'east'))),)
+        LOG = (('go', 't'), ('open', 't'), ('sweep', 't'), ('go', 't'))
+        self.assertEqual(
+            [come_up(P, J, LOG), is_log(P, J, LOG), is_log(P, J, (('open', 't'),)), rows_of((('row', ('go', 't')), ('send', ('look', 'a', 1)))), letters_of((('row', ('go', 't')), ('send', ('look', 'a', 1))))],
+            [(1, (2,), (1, 1), (('points', (), ()),)), True, False, (('go', 't'),), (('look', 'a', 1),)],
+        )
+
+
+class Part8Test(unittest.TestCase):
+    def test_journeys(self):
+        LOOP = read_plan(TEXT)
+        TABLE = routes(LOOP)
+        BOTH = (('one', (TABLE[0], TABLE[4])), ('two', (TABLE[3], TABLE[5])))
+        LEFT = (('one', (TABLE[0], TABLE[4])), ('two', (TABLE[2],)))
+        self.assertEqual(
+            [held(LOOP, BOTH, (1, 1)), wanted(LOOP, BOTH, (1, 1)), is_homely(LOOP, BOTH, (1, 1)), going_trains(LOOP, BOTH, (0, 0)), judge_going(LOOP, LEFT, (1, 0), 'two'), judge_going(LOOP, LEFT, (2, 0), 'one'), judge_count(LOOP, LEFT, (1, 0))],
+            [(('a',), ('b',)), (('e', 'q'), ('p', 'w')), True, ('one', 'two'), ('held', 'a', 'one'), ('home',), ('order', ('one', 'two'))],
+        )
 
 
 class ReadmeTest(unittest.TestCase):

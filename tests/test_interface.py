@@ -25,6 +25,24 @@ INTERFACE = {
         "passes": ["plan", "field", "name"], "settles": ["plan", "field", "name"], "shows_of": ["plan", "field"],
         "lies_now": ["plan", "field"],
     },
+    "clearline.journeys": {
+        "are_journeys": ["plan", "thing"], "held": ["plan", "journeys", "count"],
+        "wanted": ["plan", "journeys", "count"], "judge_count": ["plan", "journeys", "count"],
+        "count_holds": ["plan", "journeys", "count", "thing"], "is_homely": ["plan", "journeys", "count"],
+        "judge_going": ["plan", "journeys", "count", "train"],
+        "going_holds": ["plan", "journeys", "count", "train", "thing"],
+        "going_trains": ["plan", "journeys", "count"],
+    },
+    "clearline.box": {
+        "is_book": ["plan", "journeys", "thing"], "begun_book": ["plan", "journeys"],
+        "room_of": ["plan", "journeys", "book", "train"], "ordered": ["plan", "journeys", "book", "order"],
+        "told": ["plan", "journeys", "book", "answer"], "ticked": ["plan", "journeys", "book"],
+        "reason_holds": ["plan", "journeys", "book", "order", "thing"],
+    },
+    "clearline.log": {
+        "is_log": ["plan", "journeys", "thing"], "come_up": ["plan", "journeys", "log"],
+        "rows_of": ["deeds"], "letters_of": ["deeds"],
+    },
 }
 
 
