@@ -42,3 +42,10 @@ def are_ascending(thing, known):
     if not are_items(thing, lambda item: is_one_of(item, known)):
         return False
     return list(thing) == sorted(set(thing))
+
+
+def is_same(thing, other):
+    """Whether two values are equal, of which the other one has tuples, strings and integers: no bool equals one."""
+    if isinstance(thing, tuple) and isinstance(other, tuple):
+        return len(thing) == len(other) and all([is_same(one, two) for one, two in zip(thing, other)])
+    return thing == other and not isinstance(thing, bool)

@@ -6,6 +6,9 @@ from clearline.layout import layout_of
 from clearline.lies import are_lies, demand_lies
 from clearline.ways import wanted_side
 
+# The first words of accidents.
+ACCIDENTS = ("meet", "derailed")
+
 
 def is_cover(layout, thing):
     """Whether any value is a cover: one way, or two, the second of which leads to the first one."""
@@ -180,6 +183,11 @@ def drawn_in(standing, name, kept):
     trains, lies, shows = standing
     cover = train_called(standing, name)[1]
     return (with_train(trains, (name, (cover[kept],), False)), lies, shows)
+
+
+def is_accident(after):
+    """Whether what comes of a move is an accident, and not a standing."""
+    return after[0] in ACCIDENTS
 
 
 def after_move(layout, standing, move):

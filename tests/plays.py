@@ -73,3 +73,10 @@ def books_of(plan, journeys, chance, many):
         play.go_on()
         found.append(play.book)
     return found
+
+
+def nothing_done(book):
+    """The book with nothing done in works "points"."""
+    works = tuple(
+        work[:2] + ((False,) * len(work[2]),) if work[:1] == ("points",) else work for work in book[3])
+    return book[:3] + (works,)

@@ -5,7 +5,7 @@ import inspect
 import itertools
 import unittest
 
-from clearline import box, errors, field, journeys, log, routes, tracks
+from clearline import box, clashes, days, errors, field, journeys, log, routes, tracks, worlds
 from tests.layouts import LINE, PLANS, UNCHECKED
 from tests.samples import ANY_VALUES, EMPTY, FAULTY, FULL, LOOP, raises, same_calls, spoiled
 from tests.trains import BOTH, LEFT, SAMPLES
@@ -25,6 +25,9 @@ OPENED = (4, (1, 1), (0, 0, 1, 2, 2, 2), ((), ("open", 4)))
 THROW = ("send", ("throw", "q", 3, "right"))
 LOG = (("go", "one"), ("open", "one"), ("sweep", "one"))
 COME_UP = (3, (1, 0), (1, 1, 1, 0, 0, 0), (("sweep", 0, 3), ()))
+DAY = ("two", "two", "one", "one")
+WISHES = (("two", 1, "one", 1),)
+PAPER = ("least", DAY, tuple((count, 0) for count in itertools.product(range(3), repeat=2)))
 HERE = {"journeys": BOTH, "count": (1, 1)}
 BOOKED = {"journeys": BOTH, "book": BOOK}
 # The right arguments behind the plan, and what the function answers; None where several answers are right.
@@ -79,6 +82,19 @@ CALLS = {
     box.reason_holds: ({**BOOKED, "order": ("go", "two"), "thing": ("under way", "two")}, True),
     log.is_log: ({"journeys": BOTH, "thing": LOG}, True),
     log.come_up: ({"journeys": BOTH, "log": LOG}, COME_UP),
+    worlds.judge_run: (
+        {"journeys": BOTH, "lies": LIES, "deeds": (("order", ("go", "one")), ("bring", 0))},
+        ("safe", ((), LIES, ())),
+    ),
+    days.can_be_gone: ({"journeys": BOTH, "thing": DAY}, True),
+    days.price: ({"journeys": BOTH, "wishes": WISHES, "day": DAY[::-1]}, 1),
+    days.judge_days: ({"journeys": BOTH, "wishes": WISHES}, None),
+    days.days_hold: ({"journeys": BOTH, "wishes": WISHES, "thing": PAPER}, True),
+    days.least_price: ({"journeys": BOTH, "wishes": WISHES}, 0),
+    clashes.clash: ({"one": ROUTE, "other": OTHER_ROUTE}, None),
+    clashes.is_clash: (
+        {"one": ROUTE, "other": OTHER_ROUTE, "thing": (("in", "one", "west"), ("on", "other"), ("on", "one"))}, True,
+    ),
 }
 # The error of each parameter, and values that are wrong for it, as is None.
 WRONG = {
@@ -100,6 +116,9 @@ WRONG = {
     "order": (errors.BadOrder, [("go", "three"), ["go", "one"]]),
     "answer": (errors.BadAnswer, [("points", "q", 3), ["points", "q", 3, "right"]]),
     "log": (errors.BadLog, [LOG[1:], [*LOG]]),
+    "deeds": (errors.BadDeed, [[("tick",)], "tick"]),
+    "wishes": (errors.BadWishes, [WISHES[0], (("one", 1, "one", 2),), [*WISHES]]),
+    "day": (errors.BadDay, [DAY[1:], [*DAY]]),
 }
 NO_PLANS = [*ANY_VALUES, LOOP[:3], [*LOOP], (LOOP,), "stretch a plain"]
 
@@ -111,7 +130,10 @@ def fitting(function):
 
 class CallsTest(unittest.TestCase):
     def test_all_functions_are_here(self):
-        for module, many in ((routes, 7), (tracks, 6), (field, 9), (journeys, 9), (box, 7), (log, 2)):
+        many_in = {
+            routes: 7, tracks: 6, field: 9, journeys: 9, box: 7, log: 2, worlds: 1, days: 5, clashes: 2,
+        }
+        for module, many in many_in.items():
             here = [function for function in CALLS if function.__module__ == module.__name__]
             self.assertEqual(len(here), many)
 
@@ -161,6 +183,8 @@ class CallsTest(unittest.TestCase):
             self.assertEqual(box.begun_book(LOOP, BOTH[:1]), (0, (0,), (0,) * 6, ((),)))
             self.assertEqual(log.come_up(LOOP, BOTH, (("go", "two"),))[1], (0, 1))
             self.assertEqual(log.come_up(LOOP, BOTH[::-1], (("go", "two"),))[1], (1, 0))
+            self.assertEqual(days.least_price(LOOP, BOTH, (("one", 1, "two", 1), ("two", 1, "one", 1))), 1)
+            self.assertEqual(days.least_price(LOOP, LEFT, (("one", 1, "two", 1), ("two", 1, "one", 2))), 1)
 
     def test_answers_behind_another_plan(self):
         # The same names, but r stands where s stood: what was told of one plan is not told of the other.
@@ -279,6 +303,17 @@ class ErrorsTest(unittest.TestCase):
                 for spoilt in itertools.combinations(names, many):
                     wrong = {**arguments, **{name: None for name in spoilt}}
                     raises(self, function, wrong, WRONG[spoilt[0]][0], None)
+
+    def test_bad_pair_comes_last(self):
+        arguments = fitting(clashes.is_clash)
+        for route in (ROUTE, OTHER_ROUTE):
+            pair = {"one": route, "other": route}
+            for function, more in ((clashes.clash, {}), (clashes.is_clash, {"thing": ()})):
+                with self.assertRaises(errors.BadPair) as caught:
+                    function(LOOP, **pair, **more)
+                self.assertIs(type(caught.exception), errors.BadPair)
+                self.assertEqual(caught.exception.thing, (route, route))
+        raises(self, clashes.is_clash, {**arguments, "one": (), "other": ()}, errors.BadRoute, ())
 
     def test_the_empty_plan(self):
         self.assertEqual(routes.routes(EMPTY), ())

@@ -5,14 +5,18 @@ import pathlib
 import unittest
 
 from clearline.box import begun_book, ordered, reason_holds, room_of, ticked, told
+from clearline.calm import calm_run, most_rounds, report
 from clearline.checker import at_end, fault, joined_to
-from clearline.errors import BadText
+from clearline.clashes import clash, is_clash
+from clearline.days import can_be_gone, days_hold, judge_days, least_price, price
+from clearline.errors import BadDeed, BadText
 from clearline.field import begun_field, hears, passes, settles, shows_of
 from clearline.journeys import going_trains, held, is_homely, judge_count, judge_going, wanted
 from clearline.log import come_up, is_log, letters_of, rows_of
 from clearline.plans import plan_text, read_plan
 from clearline.routes import berth_of, do_bar, is_route, lies_of, needs, routes
 from clearline.tracks import bare, is_safe, moved, moves, taken
+from clearline.worlds import World, judge_run
 
 TEXT = 'stretch w plain\nstretch p points\nstretch a plain\nstretch b plain\nstretch q points\nstretch e plain\njoin w 1 p 0\njoin p 1 a 0\njoin p 2 b 0\njoin a 1 q 1\njoin b 1 q 2\njoin q 0 e 0\ngate west w 0\ngate east e 1\nsignal sa a 1\nsignal sb b 0'
 
@@ -120,6 +124,83 @@ class Part8Test(unittest.TestCase):
         self.assertEqual(
             [held(LOOP, BOTH, (1, 1)), wanted(LOOP, BOTH, (1, 1)), is_homely(LOOP, BOTH, (1, 1)), going_trains(LOOP, BOTH, (0, 0)), judge_going(LOOP, LEFT, (1, 0), 'two'), judge_going(LOOP, LEFT, (2, 0), 'one'), judge_count(LOOP, LEFT, (1, 0))],
             [(('a',), ('b',)), (('e', 'q'), ('p', 'w')), True, ('one', 'two'), ('held', 'a', 'one'), ('home',), ('order', ('one', 'two'))],
+        )
+
+
+class Part9Test(unittest.TestCase):
+    def test_orders_letters_and_a_fall(self):
+        P = ((('a', 'plain'), ('b', 'plain')), ((('a', 1), ('b', 0)),), (('west', ('a', 0)), ('east', ('b', 1))), (('s', ('a', 1), ()),))
+        J = (('t', (('west', (('a', 0, 1),), 's'), ('s', (('b', 0, 1),), 'east'))),)
+        W = World(P, J, ())
+        self.assertEqual(
+            [W.do(('order', ('go', 't'))), W.net(), W.do(('bring', 0)), W.net(), W.do(('in', 't', 'west')), W.net()[1:], W.standing(), W.do(('fall',)), W.book(), W.log(), W.do(('up',)), W.book()],
+            [None, (('open', 'west', 1),), None, (('signal', 'west', 1, 1, False),), None, (('signal', 'west', 1, 1, True),), ((('t', (('a', 0, 1),), False),), (), ()), None, None, (('go', 't'), ('open', 't')), None, (1, (1,), (1, 0), (('open', 1),))],
+        )
+
+    def test_a_run(self):
+        P = ((('a', 'plain'), ('b', 'plain')), ((('a', 1), ('b', 0)),), (('west', ('a', 0)), ('east', ('b', 1))), (('s', ('a', 1), ()),))
+        J = (('t', (('west', (('a', 0, 1),), 's'), ('s', (('b', 0, 1),), 'east'))),)
+        W = World(P, J, ())
+        DONE = W.run((0, 17, 5, 1000003, 12, 7, 30))
+        self.assertEqual([len(DONE), W.accident(), judge_run(P, J, (), DONE) == ('safe', W.standing())], [7, None, True])
+
+    def test_points(self):
+        Q = ((('w', 'plain'), ('p', 'points'), ('a', 'plain'), ('b', 'plain')), ((('w', 1), ('p', 0)), (('p', 1), ('a', 0)), (('p', 2), ('b', 0))), (('west', ('w', 0)), ('east', ('a', 1)), ('south', ('b', 1))), ())
+        J = (('t', (('west', (('w', 0, 1), ('p', 0, 2), ('b', 0, 1)), 'south'),)),)
+        W = World(Q, J, (('p', 'left'),))
+        self.assertEqual(
+            [W.do(('order', ('go', 't'))), W.net(), W.do(('bring', 0)), W.net(), W.do(('settle', 'p')), W.standing()[1], W.do(('tick',)), W.net()[1:], W.do(('bring', 1)), W.net()[1:], W.do(('bring', 1)), W.net()[1:], W.book()],
+            [None, (('throw', 'p', 1, 'right'),), None, (('points', 'p', 1, 'between'),), None, (('p', 'right'),), None, (('throw', 'p', 1, 'right'),), None, (('points', 'p', 1, 'right'),), None, (('open', 'west', 2),), (2, (1,), (1, 1, 0, 1), (('open', 2),))],
+        )
+
+    def test_a_slip(self):
+        R = ((('a', 'plain'), ('o', 'plain')), ((('a', 1), ('o', 0)),), (('west', ('a', 0)), ('east', ('o', 1))), (('s', ('a', 1), (('o', 0, 1),)),))
+        J = (('t', (('west', (('a', 0, 1),), 's'), ('s', (('o', 0, 1),), 'east'))),)
+        W = World(R, J, ())
+        self.assertEqual(
+            [W.do(('order', ('go', 't'))), W.do(('bring', 0)), W.do(('in', 't', 'west')), W.book()[2], W.do(('slip', 't')), W.standing()[0], W.do(('back', 't')), W.standing()[0]],
+            [None, None, None, (1, 1), None, (('t', (('o', 0, 1), ('a', 0, 1)), True),), None, (('t', (('a', 0, 1),), False),)],
+        )
+
+    def test_a_bad_deed(self):
+        P = ((('a', 'plain'), ('b', 'plain')), ((('a', 1), ('b', 0)),), (('west', ('a', 0)), ('east', ('b', 1))), (('s', ('a', 1), ()),))
+        J = (('t', (('west', (('a', 0, 1),), 's'), ('s', (('b', 0, 1),), 'east'))),)
+        W = World(P, J, ())
+        with self.assertRaises(BadDeed) as caught:
+            W.do(('bring', False))
+        self.assertEqual(repr(caught.exception.thing), repr(('bring', False)))
+
+
+class Part10Test(unittest.TestCase):
+    def test_a_calm_run(self):
+        P = ((('a', 'plain'), ('b', 'plain')), ((('a', 1), ('b', 0)),), (('west', ('a', 0)), ('east', ('b', 1))), (('s', ('a', 1), ()),))
+        J = (('t', (('west', (('a', 0, 1),), 's'), ('s', (('b', 0, 1),), 'east'))),)
+        W = World(P, J, ())
+        self.assertEqual(
+            [most_rounds(W), report(W), calm_run(W), report(W), W.home()],
+            [3, (('t', 'outside', 'west'),), 2, (('t', 'home', 'east'),), ('t',)],
+        )
+
+
+class Part11Test(unittest.TestCase):
+    def test_days(self):
+        LOOP = read_plan(TEXT)
+        TABLE = routes(LOOP)
+        BOTH = (('one', (TABLE[0], TABLE[4])), ('two', (TABLE[3], TABLE[5])))
+        WISH, AGAINST = ('two', 1, 'one', 1), ('one', 1, 'two', 1)
+        self.assertEqual(
+            [can_be_gone(LOOP, BOTH, ('one', 'one', 'two', 'two')), can_be_gone(LOOP, BOTH, ('one', 'two')), price(LOOP, BOTH, (WISH,), ('one', 'one', 'two', 'two')), least_price(LOOP, BOTH, (WISH,)), least_price(LOOP, BOTH, (WISH, AGAINST)), days_hold(LOOP, BOTH, (WISH,), judge_days(LOOP, BOTH, (WISH,)))],
+            [True, False, 1, 0, 1, True],
+        )
+
+
+class Part12Test(unittest.TestCase):
+    def test_clashes(self):
+        LOOP = read_plan(TEXT)
+        TABLE = routes(LOOP)
+        self.assertEqual(
+            [len(clash(LOOP, TABLE[0], TABLE[2])), clash(LOOP, TABLE[0], TABLE[3]), is_clash(LOOP, TABLE[0], TABLE[2], ())],
+            [8, None, False],
         )
 
 

@@ -4,6 +4,8 @@ import importlib
 import inspect
 import unittest
 
+from clearline.worlds import World
+
 INTERFACE = {
     "clearline.plans": {"is_plan": ["thing"], "plan_text": ["plan"], "read_plan": ["text"]},
     "clearline.checker": {
@@ -43,10 +45,38 @@ INTERFACE = {
         "is_log": ["plan", "journeys", "thing"], "come_up": ["plan", "journeys", "log"],
         "rows_of": ["deeds"], "letters_of": ["deeds"],
     },
+    "clearline.worlds": {"judge_run": ["plan", "journeys", "lies", "deeds"]},
+    "clearline.calm": {
+        "calm_round": ["world"], "calm_run": ["world"], "most_rounds": ["world"], "report": ["world"],
+    },
+    "clearline.days": {
+        "can_be_gone": ["plan", "journeys", "thing"], "price": ["plan", "journeys", "wishes", "day"],
+        "judge_days": ["plan", "journeys", "wishes"], "days_hold": ["plan", "journeys", "wishes", "thing"],
+        "least_price": ["plan", "journeys", "wishes"],
+    },
+    "clearline.clashes": {"clash": ["plan", "one", "other"], "is_clash": ["plan", "one", "other", "thing"]},
+}
+
+
+METHODS = {
+    "__init__": ["plan", "journeys", "lies"], "deeds": [], "do": ["deed"], "run": ["choices"], "standing": [],
+    "field": [], "net": [], "log": [], "book": [], "accident": [], "home": [],
 }
 
 
 class InterfaceTest(unittest.TestCase):
+    def test_the_class_world(self):
+        self.assertEqual(World.__module__, "clearline.worlds")
+        self.assertEqual(World.__bases__, (object,))
+        for name, parameters in METHODS.items():
+            with self.subTest(name):
+                method = vars(World)[name]
+                self.assertTrue(inspect.isfunction(method))
+                self.assertEqual(list(inspect.signature(method).parameters)[1:], parameters)
+                for parameter in inspect.signature(method).parameters.values():
+                    self.assertIs(parameter.kind, parameter.POSITIONAL_OR_KEYWORD)
+                    self.assertIs(parameter.default, parameter.empty)
+
     def test_functions_and_parameters(self):
         for module_name, functions in INTERFACE.items():
             module = importlib.import_module(module_name)

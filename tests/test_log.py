@@ -8,7 +8,7 @@ from clearline.errors import BadLog
 from clearline.log import come_up, is_log, letters_of, rows_of
 from tests import box_oracle
 from tests.layouts import LINE
-from tests.plays import Play
+from tests.plays import Play, nothing_done
 from tests.samples import ANY_VALUES, LOOP, changed, raises, same_calls, wrong_kinds, wrong_lengths
 from tests.trains import BOTH, FACING, HALT, LEFT, PASSING, SAMPLES, random_samples
 
@@ -18,13 +18,6 @@ WHOLE = (
     ("go", "one"), ("go", "two"), ("open", "two"), ("open", "one"), ("stop", "two"), ("undone", "two"),
     ("stop", "one"), ("sweep", "one"), ("free", "one"), ("go", "two"), ("undone", "two"), ("free", "one"), ("go", "one"),
 )
-
-
-def nothing_done(book):
-    """The book with nothing done in works "points"."""
-    works = tuple(
-        work[:2] + ((False,) * len(work[2]),) if work[:1] == ("points",) else work for work in book[3])
-    return book[:3] + (works,)
 
 
 class LogTest(unittest.TestCase):
