@@ -115,7 +115,7 @@ class NewWorldTest(WorldsTest):
 class BoxTest(WorldsTest):
     def test_orders(self):
         world = World(LINE, FACING, ())
-        book, deeds = ordered(LINE, FACING, world.book(), GO[1])
+        book = ordered(LINE, FACING, world.book(), GO[1])[0]
         self.assert_does(
             world, GO, book=book, log=(("go", "t"), ("open", "t")), net=(("open", "west", 1),))
         # A refused order does nothing.
